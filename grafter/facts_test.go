@@ -20,9 +20,25 @@ type fact struct {
 	high  int // of the node that a `*` means; 0, if there is none
 }
 
-type size struct {
-	high  int
-	heavy *big.Int
+// made is a node as the writer means it.
+type made struct {
+	number int    // of those that begin, from 0 on
+	open   string // `[`, `{`, or nothing, of a text
+	text   string
+	keys   []string
+	parts  []*made
+	high   int
+	heavy  *big.Int
+}
+
+func (m *made) end() *made {
+	m.high, m.heavy = 0, big.NewInt(1)
+	for _, part := range m.parts {
+		m.high = max(m.high, part.high)
+		m.heavy.Add(m.heavy, part.heavy)
+	}
+	m.high++
+	return m
 }
 
 // writer makes up a text and knows all of its facts without reading it.
@@ -30,7 +46,7 @@ type writer struct {
 	*rand.Rand
 	text    strings.Builder
 	facts   []fact
-	names   map[string]size
+	names   map[string]*made
 	inside  map[int]bool // places inside of words and strings
 	nodes   int
 	anchors int
@@ -62,9 +78,10 @@ func (w *writer) token(s string) int {
 
 func (w *writer) name() string { return []string{"a", "b", "a.b", "abcdefghijkl"}[w.Intn(4)] }
 
-func (w *writer) begin(level int) {
+func (w *writer) begin(level int) *made {
 	w.nodes++
 	w.facts = append(w.facts, fact{what: api.ErrNodes, place: w.text.Len(), known: w.text.Len() + 1, level: level})
+	return &made{number: w.nodes - 1}
 }
 
 func (w *writer) anchor() string {
@@ -77,94 +94,89 @@ func (w *writer) anchor() string {
 	return name
 }
 
-func (w *writer) alias(level int) size {
+func (w *writer) alias(level int) *made {
 	name := w.name()
 	means, ok := w.names[name]
 	if !ok && !w.wild {
-		return w.node(level, "", false)
+		return w.value(level, w.begin(level))
 	}
 	at := w.put("*")
 	w.blanks()
 	w.token(name)
-	w.facts = append(w.facts, fact{what: api.ErrAlias, place: at, known: w.text.Len(), level: level, high: means.high})
-	if !ok {
-		means = size{1, big.NewInt(1)}
+	f := fact{what: api.ErrAlias, place: at, known: w.text.Len(), level: level}
+	if ok {
+		f.high = means.high
+	} else {
+		means = new(made).end()
 	}
+	w.facts = append(w.facts, f)
 	return means
 }
 
-func (w *writer) flow(level int) size {
+func (w *writer) flow(level int) *made {
 	if w.Intn(3) == 0 {
 		return w.alias(level)
 	}
+	m := w.begin(level)
 	if w.Intn(3) != 0 {
-		return w.node(level, "", false)
+		return w.value(level, m)
 	}
-	w.begin(level)
 	name := w.anchor()
 	w.put(" ")
 	w.blanks()
-	return w.node(level, name, true)
+	w.names[name] = w.value(level, m)
+	return m
 }
 
-// node writes a value; began says that a name ahead of it began it.
-func (w *writer) node(level int, name string, began bool) size {
-	if !began {
-		w.begin(level)
-	}
-	got := w.value(level)
-	if name != "" {
-		w.names[name] = got
-	}
-	return got
-}
-
-func (w *writer) value(level int) size {
+// value writes a node that has begun.
+func (w *writer) value(level int, m *made) *made {
 	kind := w.Intn(6)
 	if level > 5 {
 		kind = 0
 	}
 	switch kind {
 	case 0, 1, 2:
-		w.token([]string{"x", "y1", "abcdefghijkl", `""`, `"a b"`, `"*a &b [{"`, `"abcdefghijklmnopqrst"`}[w.Intn(7)])
-		return size{1, big.NewInt(1)}
+		texts := []string{"x", "y1", "abcdefghijkl", `""`, `"a b"`, `"*a &b [{"`, `"abcdefghijklmnopqrst"`, `"x"`, `"abcdefghijklm"`, `"A.b_9"`}
+		written := texts[w.Intn(len(texts))]
+		w.token(written)
+		m.text = strings.Trim(written, `"`)
 	case 3, 4:
-		return w.brackets("[", "]", level, func([]string) []string { return nil })
+		m.open = "["
+		w.brackets(level, m)
+	default:
+		m.open = "{"
+		w.brackets(level, m)
 	}
-	return w.brackets("{", "}", level, w.key)
+	return m.end()
 }
 
-func (w *writer) brackets(open, closing string, level int, lead func([]string) []string) size {
-	got := size{0, big.NewInt(1)}
-	var keys []string
-	w.put(open)
+func (w *writer) brackets(level int, m *made) {
+	w.put(m.open)
 	for i := range w.Intn(4) {
 		if i > 0 {
 			w.blanks()
 			w.put(",")
 		}
 		w.blanks()
-		keys = lead(keys)
-		got = got.with(w.flow(level + 1))
+		if m.open == "{" {
+			w.key(m)
+		}
+		m.parts = append(m.parts, w.flow(level+1))
 	}
 	w.blanks()
-	w.put(closing)
-	got.high++
-	return got
+	w.put(closing(m))
 }
 
-func (s size) with(part size) size {
-	return size{max(s.high, part.high), new(big.Int).Add(s.heavy, part.heavy)}
-}
+func closing(m *made) string { return map[string]string{"[": "]", "{": "}"}[m.open] }
 
-func (w *writer) key(keys []string) []string {
-	key := fmt.Sprint("k", len(keys))
-	again := w.wild && len(keys) > 0 && w.Intn(9) == 0
+func (w *writer) key(m *made) {
+	key := fmt.Sprint([]string{"k", "k k", "abcdefghijkl"}[w.Intn(3)], len(m.keys))
+	again := w.wild && len(m.keys) > 0 && w.Intn(9) == 0
 	if again {
-		key = keys[w.Intn(len(keys))]
+		key = m.keys[w.Intn(len(m.keys))]
 	}
 	written := key
-	if w.Intn(2) == 0 {
+	if key[0] != 'k' || key[1] == ' ' || w.Intn(2) == 0 {
 		written = `"` + key + `"`
 	}
 	at := w.token(written)
@@ -174,69 +186,70 @@ func (w *writer) key(keys []string) []string {
 	w.blanks()
 	w.put(":")
 	w.blanks()
-	return append(keys, key)
+	m.keys = append(m.keys, key)
 }
 
-// block writes lines; began says that a name above them began it.
-func (w *writer) block(depth int, began bool) size {
-	got := size{0, big.NewInt(1)}
-	var keys []string
-	lead := w.key
-	if w.Intn(2) == 0 {
-		lead = func([]string) []string { w.put("-"); w.blanks(); return nil }
-	}
+// block writes lines; m is nil, if no name above them began it.
+func (w *writer) block(depth int, m *made) *made {
+	open := []string{"[", "{"}[w.Intn(2)]
 	for i := range 1 + w.Intn(3) {
 		if i > 0 {
 			w.put("\n")
 			w.blankLines()
 		}
 		w.put(strings.Repeat("  ", depth))
-		if i == 0 && !began {
-			w.begin(depth + 1)
+		if m == nil {
+			m = w.begin(depth + 1)
 		}
-		keys = lead(keys)
-		got = got.with(w.item(depth))
+		m.open = open
+		if open == "{" {
+			w.key(m)
+		} else {
+			w.put("-")
+			w.blanks()
+		}
+		m.parts = append(m.parts, w.item(depth))
 		w.blanks()
 	}
-	got.high++
-	return got
+	return m.end()
 }
 
-func (w *writer) item(depth int) size {
+func (w *writer) item(depth int) *made {
 	if depth > 3 || w.Intn(2) == 0 {
 		return w.flow(depth + 2)
 	}
+	var m *made
 	name := ""
 	if w.Intn(2) == 0 {
-		w.begin(depth + 2)
+		m = w.begin(depth + 2)
 		name = w.anchor()
 	}
 	w.blanks()
 	w.put("\n")
 	w.blankLines()
-	got := w.block(depth+1, name != "")
+	m = w.block(depth+1, m)
 	if name != "" {
-		w.names[name] = got
+		w.names[name] = m
 	}
-	return got
+	return m
 }
 
-func newWriter(seed int64) (*writer, size) {
-	w := &writer{Rand: rand.New(rand.NewSource(seed)), names: map[string]size{}, inside: map[int]bool{}}
+func newWriter(seed int64) (*writer, *made) {
+	w := &writer{Rand: rand.New(rand.NewSource(seed)), names: map[string]*made{}, inside: map[int]bool{}}
 	w.wild = w.Intn(2) == 0
 	w.blankLines()
-	var got size
+	var top *made
 	if w.Intn(3) == 0 {
-		got = w.flow(1)
+		top = w.flow(1)
 	} else {
-		got = w.block(0, false)
+		top = w.block(0, nil)
 	}
 	if w.Intn(2) == 0 {
 		w.put("\n")
 		w.blankLines()
 		w.blanks()
 	}
-	return w, got
+	return w, top
 }
 
 // expect gives the first error of the facts that the first bytes of the text tell.
@@ -274,7 +287,7 @@ func (w *writer) expect(b api.Budget, bytes int) (api.Errno, int) {
 	return api.OK, 0
 }
 
-func (w *writer) someBudget(got size) api.Budget {
+func (w *writer) someBudget(got *made) api.Budget {
 	near := func(n, least, most int) int { return min(max(n-w.Intn(n+1)*w.Intn(2)+w.Intn(2), least), most) }
 	heavy := api.MaxWeight
 	if got.heavy.IsInt64() {

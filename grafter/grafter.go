@@ -5,6 +5,7 @@ import (
 	"grafter/api"
 	"grafter/graph"
 	"grafter/parse"
+	"grafter/write"
 )
 
 // Doc is what a text says.
@@ -43,17 +44,37 @@ func within(n, least, most int) bool {
 
 // Measure tells what the text has (P7).
 func (d *Doc) Measure() api.Budget {
-	if d == nil { // Load gives nil beside an error, and no call may panic
+	if d.isNothing() {
 		return api.Budget{}
 	}
 	return d.graph.Measure()
 }
 
 // Plain writes it in one line (P8).
-func (d *Doc) Plain() string { return "" }
+func (d *Doc) Plain() string {
+	if d.isNothing() {
+		return ""
+	}
+	return write.Plain(d.graph, 0)
+}
 
 // Get writes what stands at a path (P9).
-func (d *Doc) Get(path []string) (string, api.Errno) { return "", api.OK }
+func (d *Doc) Get(path []string) (string, api.Errno) {
+	if d.isNothing() {
+		return "", api.ErrPath
+	}
+	id, ok := d.graph.At(path)
+	if !ok {
+		return "", api.ErrPath
+	}
+	return write.Plain(d.graph, id), api.OK
+}
 
 // Unfold writes it without names (P10).
 func (d *Doc) Unfold(most int) (string, api.Errno) { return "", api.OK }
+
+// isNothing tells of the nil that Load gives beside an error, and of a Doc that
+// it did not give: no call may panic.
+func (d *Doc) isNothing() bool {
+	return d == nil || d.graph == nil
+}

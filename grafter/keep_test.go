@@ -37,3 +37,35 @@ func TestTextIsNotKept(t *testing.T) {
 		t.Errorf("%v, want %v", d.graph.Nodes, want)
 	}
 }
+
+// P2: an answer has memory of its own, too: it follows neither the text nor the
+// path over which it was asked.
+func TestPathIsNotKept(t *testing.T) {
+	text := []byte("{ab: &n [cd], \"e f\": [\"g h\", *n, *n]}")
+	d, errno, _ := Load(unsafe.String(&text[0], len(text)), api.Budget{Depth: 9, Nodes: 9, Anchors: 9, Weight: 19})
+	if errno != api.OK {
+		t.Fatal(errno)
+	}
+	key, number := []byte("e f"), []byte("0")
+	path := []string{unsafe.String(&key[0], len(key)), unsafe.String(&number[0], len(number))}
+	whole, plain := d.Plain(), "{ab: &n0 [cd], \"e f\": [\"g h\", *n0, *n0]}"
+	list, _ := d.Get(path[:1])
+	leaf, _ := d.Get(path)
+	for _, bytes := range [][]byte{text, key, number} {
+		for i := range bytes {
+			bytes[i] = '?'
+		}
+	}
+	if whole != plain || list != "[\"g h\", &n0 [cd], *n0]" || leaf != "\"g h\"" {
+		t.Errorf("answers have changed: %q, %q, %q", whole, list, leaf)
+	}
+	if got, errno := d.Get([]string{"e f", "0"}); got != leaf || errno != api.OK {
+		t.Errorf("%q, %d", got, errno)
+	}
+	if got := d.Plain(); got != plain {
+		t.Errorf("%q", got)
+	}
+	if got, errno := d.Get(path); got != "" || errno != api.ErrPath {
+		t.Errorf("a path that was changed: %q, %d", got, errno)
+	}
+}

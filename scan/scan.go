@@ -144,6 +144,16 @@ func kindOf(b byte) Kind {
 	return Stray
 }
 
+// IsWord tells whether a text is a word from its first byte to its last.
+func IsWord(text string) bool {
+	for i := range len(text) {
+		if !isWordByte(text[i]) {
+			return false
+		}
+	}
+	return 0 < len(text) && len(text) <= api.MaxWord
+}
+
 func isWordByte(b byte) bool {
 	switch {
 	case 'a' <= b && b <= 'z', 'A' <= b && b <= 'Z', '0' <= b && b <= '9':

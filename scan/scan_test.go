@@ -94,3 +94,16 @@ func TestCopyLooksAhead(t *testing.T) {
 		t.Errorf("ahead at %d, the first one at %d", ahead.Place(), s.Place())
 	}
 }
+
+func TestIsWord(t *testing.T) {
+	for _, text := range []string{"a", "Z", "0", "_", ".", "a.b_C9", "abcdefghijkl"} {
+		if !IsWord(text) {
+			t.Errorf("%q is a word", text)
+		}
+	}
+	for _, text := range []string{"", " ", "a ", " a", "a b", "-", "a-", "\"a\"", "é", "\xff", "a\n", "abcdefghijklm", strings.Repeat("a", 1000)} {
+		if IsWord(text) {
+			t.Errorf("%q is no word", text)
+		}
+	}
+}
