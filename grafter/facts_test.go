@@ -2,6 +2,7 @@ package grafter_test
 
 import (
 	"fmt"
+	"iter"
 	"math/big"
 	"math/rand"
 	"strings"
@@ -51,6 +52,7 @@ type writer struct {
 	nodes   int
 	anchors int
 	wild    bool // names that nobody has, and keys that are there already
+	more    int  // how many more parts stand in brackets, most of them by a name
 }
 
 func (w *writer) put(s string) int {
@@ -114,7 +116,7 @@ func (w *writer) alias(level int) *made {
 }
 
 func (w *writer) flow(level int) *made {
-	if w.Intn(3) == 0 {
+	if w.Intn(3) == 0 || w.more > 0 && w.Intn(2) == 0 {
 		return w.alias(level)
 	}
 	m := w.begin(level)
@@ -152,7 +154,7 @@ func (w *writer) value(level int, m *made) *made {
 
 func (w *writer) brackets(level int, m *made) {
 	w.put(m.open)
-	for i := range w.Intn(4) {
+	for i := range w.Intn(4 + w.more) {
 		if i > 0 {
 			w.blanks()
 			w.put(",")
@@ -250,6 +252,52 @@ func newWriter(seed int64) (*writer, *made) {
 		w.blanks()
 	}
 	return w, top
+}
+
+// newHeavy makes up lines in each of which those above it are named often.
+func newHeavy(seed int64) (*writer, *made) {
+	w := &writer{Rand: rand.New(rand.NewSource(seed)), names: map[string]*made{}, inside: map[int]bool{}}
+	w.more = 1 + w.Intn(6)
+	top := w.begin(1)
+	top.open = "["
+	for range 2 + w.Intn(12) {
+		w.put("- ")
+		m := w.begin(2)
+		name := w.anchor()
+		m.open = []string{"[", "{"}[w.Intn(2)]
+		w.brackets(2, m)
+		w.names[name] = m.end()
+		top.parts = append(top.parts, m)
+		w.put("\n")
+	}
+	return w, top.end()
+}
+
+// sample is a text that was made up, what was meant by it, and what was read.
+type sample struct {
+	*writer
+	text string
+	top  *made
+	doc  *grafter.Doc
+}
+
+// madeUp gives texts that are let in, light ones and heavy ones.
+func madeUp(t *testing.T) iter.Seq[sample] {
+	return func(yield func(sample) bool) {
+		for seed := range int64(5000) {
+			for _, write := range []func(int64) (*writer, *made){newWriter, newHeavy} {
+				w, top := write(seed)
+				text := w.text.String()
+				d, errno, _ := grafter.Load(text, wide)
+				if errno == api.OK && !yield(sample{w, text, top, d}) {
+					return
+				}
+				if t.Failed() {
+					t.Fatalf("seed %d: %q", seed, text)
+				}
+			}
+		}
+	}
 }
 
 // expect gives the first error of the facts that the first bytes of the text tell.

@@ -55,7 +55,7 @@ func (d *Doc) Plain() string {
 	if d.isNothing() {
 		return ""
 	}
-	return write.Plain(d.graph, 0)
+	return write.NewWriter(d.graph).Plain(0)
 }
 
 // Get writes what stands at a path (P9).
@@ -67,11 +67,20 @@ func (d *Doc) Get(path []string) (string, api.Errno) {
 	if !ok {
 		return "", api.ErrPath
 	}
-	return write.Plain(d.graph, id), api.OK
+	return write.NewWriter(d.graph).Plain(id), api.OK
 }
 
 // Unfold writes it without names (P10).
-func (d *Doc) Unfold(most int) (string, api.Errno) { return "", api.OK }
+func (d *Doc) Unfold(most int) (string, api.Errno) {
+	if d.isNothing() {
+		return "", api.ErrHeavy
+	}
+	line, ok := write.NewWriter(d.graph).Unfolded(0, min(most, api.MaxOut))
+	if !ok {
+		return "", api.ErrHeavy
+	}
+	return line, api.OK
+}
 
 // isNothing tells of the nil that Load gives beside an error, and of a Doc that
 // it did not give: no call may panic.

@@ -51,6 +51,8 @@ func TestPathIsNotKept(t *testing.T) {
 	whole, plain := d.Plain(), "{ab: &n0 [cd], \"e f\": [\"g h\", *n0, *n0]}"
 	list, _ := d.Get(path[:1])
 	leaf, _ := d.Get(path)
+	unfolded, _ := d.Unfold(99)
+	line := "{ab: [cd], \"e f\": [\"g h\", [cd], [cd]]}"
 	for _, bytes := range [][]byte{text, key, number} {
 		for i := range bytes {
 			bytes[i] = '?'
@@ -58,6 +60,9 @@ func TestPathIsNotKept(t *testing.T) {
 	}
 	if whole != plain || list != "[\"g h\", &n0 [cd], *n0]" || leaf != "\"g h\"" {
 		t.Errorf("answers have changed: %q, %q, %q", whole, list, leaf)
+	}
+	if got, errno := d.Unfold(99); unfolded != line || got != line || errno != api.OK {
+		t.Errorf("unfolded: %q, %q, %d", unfolded, got, errno)
 	}
 	if got, errno := d.Get([]string{"e f", "0"}); got != leaf || errno != api.OK {
 		t.Errorf("%q, %d", got, errno)

@@ -3,12 +3,13 @@ package grafter_test
 import (
 	"cmp"
 	"fmt"
+	"math"
+	"math/big"
 	"slices"
 	"strings"
 	"testing"
 
 	"grafter/api"
-	"grafter/grafter"
 )
 
 // plainOf writes a node that was made up as the document says, from the nodes
@@ -92,55 +93,72 @@ func noWords(m *made) []string {
 	return words
 }
 
-// P8, P9, P11: texts that are made up: the plain form of it all, and at paths.
+// P8, P9: texts that are made up: the plain form of it all, and at paths.
 func TestMadeUpPlain(t *testing.T) {
 	seen, names, deep := 0, 0, 0
-	for seed := range int64(20000) {
-		w, top := newWriter(seed)
-		text := w.text.String()
-		d, errno, _ := grafter.Load(text, wide)
-		if errno != api.OK {
-			continue
-		}
+	for s := range madeUp(t) {
 		seen++
-		want := plainOf(top)
-		if got := d.Plain(); got != want {
-			t.Fatalf("seed %d: Plain of %q: %q, want %q", seed, text, got, want)
+		want := plainOf(s.top)
+		if got := s.doc.Plain(); got != want {
+			t.Errorf("Plain: %q, want %q", got, want)
 		}
 		names += strings.Count(want, "&n1 ")
-		sayTheSame(t, d, want)
 		for range 5 {
-			path, m := w.somePath(top)
-			get(t, d, plainOf(m), api.OK, path...)
+			path, m := s.somePath(s.top)
+			get(t, s.doc, plainOf(m), api.OK, path...)
 			deep += len(path)
 			for _, word := range noWords(m) {
-				get(t, d, "", api.ErrPath, append(path, word)...)
+				get(t, s.doc, "", api.ErrPath, append(path, word)...)
 			}
 		}
-		if t.Failed() {
-			t.Fatalf("seed %d: %q", seed, text)
-		}
 	}
-	if seen < 5000 || names < 500 || deep < 20000 {
+	if seen < 5000 || names < 2000 || deep < 20000 {
 		t.Errorf("%d texts, %d with two names, %d words of paths: too few", seen, names, deep)
 	}
 }
 
-// sayTheSame reads a plain form and holds it against the Doc that told it.
-func sayTheSame(t *testing.T, d *grafter.Doc, plain string) {
-	t.Helper()
-	if len(plain) > api.MaxText {
-		return
+// unfolded writes a node that was made up as if each place had a node of its
+// own; what weighs more than MaxOut has more bytes than that.
+func unfolded(m *made) (string, bool) {
+	if m.heavy.Cmp(big.NewInt(api.MaxOut)) > 0 {
+		return "", false
 	}
-	again, errno, at := grafter.Load(plain, d.Measure())
-	if errno != api.OK {
-		t.Fatalf("Load(%q, %v): %d, %d", plain, d.Measure(), errno, at)
+	if m.open == "" {
+		return asText(m.text), true
 	}
-	if got := again.Plain(); got != plain {
-		t.Fatalf("Plain of %q: %q", plain, got)
+	var parts []string
+	for i, part := range m.parts {
+		lead := ""
+		if m.open == "{" {
+			lead = asText(m.keys[i]) + ": "
+		}
+		told, _ := unfolded(part)
+		parts = append(parts, lead+told)
 	}
-	before, after := d.Measure(), again.Measure()
-	if before.Depth != after.Depth || before.Nodes != after.Nodes || before.Weight != after.Weight {
-		t.Fatalf("Measure of the plain form %q: %v, want %v", plain, after, before)
+	line := m.open + strings.Join(parts, ", ") + closing(m)
+	return line, len(line) <= api.MaxOut
+}
+
+// P10: texts that are made up, unfolded under bounds about their length.
+func TestMadeUpUnfold(t *testing.T) {
+	told, names, heavy := 0, 0, 0
+	for s := range madeUp(t) {
+		line, ok := unfolded(s.top)
+		if !ok {
+			heavy++
+			for _, most := range []int{math.MaxInt, api.MaxOut, s.Intn(2 * api.MaxOut), 0} {
+				unfoldIs(t, s.doc, most, "", api.ErrHeavy)
+			}
+			continue
+		}
+		told++
+		names += strings.Count(s.doc.Plain(), "&n1 ")
+		unfoldIs(t, s.doc, len(line), line, api.OK)
+		unfoldIs(t, s.doc, len(line)+s.Intn(api.MaxOut), line, api.OK)
+		unfoldIs(t, s.doc, len(line)-1, "", api.ErrHeavy)
+		unfoldIs(t, s.doc, s.Intn(len(line)), "", api.ErrHeavy)
+	}
+	if told < 5000 || names < 2000 || heavy < 100 {
+		t.Errorf("%d texts were told, %d with two names, %d were too heavy: too few", told, names, heavy)
 	}
 }

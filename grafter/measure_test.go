@@ -37,25 +37,6 @@ func TestMeasure(t *testing.T) {
 	}
 }
 
-// P3, P5, P7: what Measure tells is needed in each of its four.
-func TestMeasureIsNeeded(t *testing.T) {
-	for _, text := range []string{
-		"[&a [x, y], [*a, *a]]", "- &p\n  - a\n-\n  k: *p", "a: &p [1]\nb:\n  - *p\n  - &p {x: *p}\nc: *p",
-	} {
-		least := accept(t, text, wide).Measure()
-		for want, b := range map[api.Errno]api.Budget{
-			api.ErrDeep:    budget(least.Depth-1, least.Nodes, least.Anchors, least.Weight),
-			api.ErrNodes:   budget(least.Depth, least.Nodes-1, least.Anchors, least.Weight),
-			api.ErrAnchors: budget(least.Depth, least.Nodes, least.Anchors-1, least.Weight),
-			api.ErrHeavy:   budget(least.Depth, least.Nodes, least.Anchors, least.Weight-1),
-		} {
-			if d, errno, _ := grafter.Load(text, b); d != nil || errno != want {
-				t.Errorf("Load(%q, %v): %d, want %d", text, b, errno, want)
-			}
-		}
-	}
-}
-
 // P1: Load gives nil beside an error, and that may be asked too.
 func TestMeasureOfNothing(t *testing.T) {
 	d, _, _ := grafter.Load(";", wide)

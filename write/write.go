@@ -11,25 +11,45 @@ import (
 	"grafter/scan"
 )
 
-type writer struct {
-	graph *graph.Graph
-	names map[int]int // by node: the number in its name, of those that have one
-	out   strings.Builder
+// Writer tells nodes of a graph, as often as it is asked to.
+type Writer struct {
+	graph  *graph.Graph
+	walker *graph.Walker
+	names  map[int]int   // by node: the number in its name, of those that have one
+	pieces map[int]piece // by node: where in the line it was told first
+	out    strings.Builder
+}
+
+// NewWriter gives a writer of its own to who asks, so that no two tellings of
+// one graph know of each other.
+func NewWriter(g *graph.Graph) *Writer {
+	return &Writer{
+		graph:  g,
+		walker: graph.NewWalker(g),
+		names:  map[int]int{},
+		pieces: map[int]piece{},
+	}
+}
+
+// begin forgets all of what was told last.
+func (w *Writer) begin() {
+	clear(w.names)
+	clear(w.pieces)
+	w.out.Reset()
 }
 
 // Plain gives the plain form of a node.
-func Plain(g *graph.Graph, id int) string {
-	w := &writer{graph: g, names: map[int]int{}}
-	walker := graph.NewWalker(g)
-	w.giveNames(walker, id)
-	w.tell(walker, id)
+func (w *Writer) Plain(id int) string {
+	w.begin()
+	w.giveNames(id)
+	w.tell(id)
 	return w.out.String()
 }
 
 // giveNames goes ahead of the telling: whether a node stands in several places
 // must be known at the first of them, and its name hangs on all that have one.
-func (w *writer) giveNames(walker *graph.Walker, from int) {
-	walker.Walk(from, graph.Steps{
+func (w *Writer) giveNames(from int) {
+	w.walker.Walk(from, graph.Steps{
 		First: func(int, graph.Place) {},
 		Again: func(id int, _ graph.Place) { w.names[id] = 0 },
 		End:   func(int) {},
@@ -40,8 +60,8 @@ func (w *writer) giveNames(walker *graph.Walker, from int) {
 	}
 }
 
-func (w *writer) tell(walker *graph.Walker, from int) {
-	walker.Walk(from, graph.Steps{
+func (w *Writer) tell(from int) {
+	w.walker.Walk(from, graph.Steps{
 		First: func(id int, at graph.Place) {
 			w.lead(at)
 			if _, ok := w.names[id]; ok {
@@ -59,7 +79,7 @@ func (w *writer) tell(walker *graph.Walker, from int) {
 }
 
 // lead writes what stands ahead of a node at its place.
-func (w *writer) lead(at graph.Place) {
+func (w *Writer) lead(at graph.Place) {
 	if at.In == graph.Nowhere {
 		return
 	}
@@ -72,13 +92,13 @@ func (w *writer) lead(at graph.Place) {
 	}
 }
 
-func (w *writer) name(sign byte, id int) {
+func (w *Writer) name(sign byte, id int) {
 	w.out.WriteByte(sign)
 	w.out.WriteByte('n')
 	w.out.WriteString(strconv.Itoa(w.names[id]))
 }
 
-func (w *writer) open(id int) {
+func (w *Writer) open(id int) {
 	switch n := &w.graph.Nodes[id]; n.Kind {
 	case graph.Text:
 		w.text(n.Text)
@@ -89,7 +109,7 @@ func (w *writer) open(id int) {
 	}
 }
 
-func (w *writer) shut(id int) {
+func (w *Writer) shut(id int) {
 	switch w.graph.Nodes[id].Kind {
 	case graph.List:
 		w.out.WriteByte(']')
@@ -100,7 +120,7 @@ func (w *writer) shut(id int) {
 
 // text writes a text or a key. How it stood in the text that was read is not
 // asked: a string may be a word, and is told as one.
-func (w *writer) text(text string) {
+func (w *Writer) text(text string) {
 	if scan.IsWord(text) {
 		w.out.WriteString(text)
 		return
